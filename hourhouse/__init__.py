@@ -1,0 +1,1 @@
+"""Hourhouse: a house of calendars."""
