@@ -80,6 +80,15 @@ class Rule:
         """The first day from day on, below end, on which the rule falls, or None."""
         return None
 
+    def days_in(self, begin, end):
+        """The list of the days from begin on, below end, on which the rule falls, in order."""
+        found = []
+        day = self.next_in(begin, end)
+        while day is not None:
+            found.append(day)
+            day = self.next_in(day + 1, end)
+        return found
+
 
 class Every(Rule):
     """First, and each day a multiple of step days behind it."""
@@ -97,6 +106,10 @@ class Every(Rule):
         begin = max(day, self.first)
         found = begin + (self.first - begin) % self.step
         return found if found < min(end, DAYS) else None
+
+    def days_in(self, begin, end):
+        day = self.next_in(begin, end)
+        return [] if day is None else list(range(day, min(end, DAYS), self.step))
 
 
 class Weekly(Rule):

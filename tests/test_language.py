@@ -8,8 +8,8 @@ import unittest
 
 PACKAGE = pathlib.Path(__file__).resolve().parent.parent / "hourhouse"
 STAGES = (
-    "errors names days", "rules joins listing ruletexts", "clocks places", "spans crowds", "books",
-    "letters tables", "views house", "texts desk",
+    "errors names days", "rules joins listing ruletexts", "clocks places", "spans crowds", "things books",
+    "letters tables", "views house", "texts sheets desk",
 )
 # Words that stand nowhere, and those that don't stand within longer ones either.
 WORDS = (
