@@ -173,8 +173,8 @@ class Shifteds(Walks):
             self.assertIs(Shifted(Every(1), many).falls_on(-1), False)
             self.assertIs(Shifted(Every(1), many).falls_on(146097), False)
         # What was shifted beyond the days doesn't come back.
-        self.assertEqual(days_of(Shifted(Shifted(Days((0, 3)), -2), 2)), [3])
-        self.assertEqual(days_of(Shifted(Shifted(Days((146096, 146000)), 2), -2)), [146000])
+        self.assertEqual(days_of(Shifted(Shifted(Days((0, 1, 2, 3)), -2), 2)), [2, 3])
+        self.assertEqual(days_of(Shifted(Shifted(Days((146096, 146095, 146094, 146000)), 2), -2)), [146000, 146094])
 
     def test_where_is_asked_of_days_alone(self):
         asked = []
