@@ -227,6 +227,27 @@ class NoSheet(Desks):
                 self.refuse(sheet(MAKING, (row,) + ASKING))
 
 
+    def test_texts_with_any_sign_off_are_answered_or_refused(self):
+        chance = random.Random(30)
+        rows = MAKING + (
+            "again ann old town 5 5 changed (either (weekly 3) (nth -1 2)) left 2026-03-01 more moved",
+            "house") + ASKING + ("days 2026-01-01 2026-02-01 but (within -5 99 (every 9)) (shifted -3 (monthly 31))",)
+        text = "".join([row + "\n" for row in rows])
+        answered = 0
+        for count in range(0, 1500):
+            place = chance.randrange(0, len(text))
+            sign = chance.choice(" ()-_:0123456789abdehnorstuvwy\n\t~/;A")
+            other = text[:place] + chance.choice((sign, "", sign + text[place])) + text[place + 1:]
+            try:
+                told = answers(other)
+            except NoText as refusal:
+                self.assertIs(type(refusal), NoText)
+                continue
+            answered += 1
+            self.assertEqual(len(told), len(ASKING) + 1)
+        self.assertGreater(answered, 50)
+
+
 class Making(Desks):
     def test_what_is_refused(self):
         for row in (
@@ -678,13 +699,13 @@ class OverAll(Desks):
             rows, many = self.house_rows(chance)
             questions = [f"spans {hand} {whole}" for hand in ("ann", "bob", "cid", "dan")]
             questions += [f"free {whole} 1 {hand}" for hand in ("ann", "bob", "cid", "dan")]
-            for told in (answers(sheet(making, rows + questions))[-8:],):
-                for spans, free in zip(told[:4], told[4:]):
-                    taken = sorted(self.held(spans) + self.held(free))
-                    # What is taken and what is free stands side by side from end to end, and nothing meets.
-                    edges = [taken[0][0]] + [span[1] for span in taken]
-                    self.assertEqual([span[0] for span in taken] + [edges[-1]], edges)
-                    self.assertEqual((edges[0], edges[-1]), ("2026-03-01_00:00", "2026-03-02_00:00"))
+            told = answers(sheet(making, rows + questions))[-8:]
+            for spans, free in zip(told[:4], told[4:]):
+                taken = sorted(self.held(spans) + self.held(free))
+                # What is taken and what is free stands side by side from end to end, and nothing meets.
+                edges = [taken[0][0]] + [span[1] for span in taken]
+                self.assertEqual([span[0] for span in taken] + [edges[-1]], edges)
+                self.assertEqual((edges[0], edges[-1]), ("2026-03-01_00:00", "2026-03-02_00:00"))
             places = list(range(0, many)) + [chance.randrange(0, many) for again in range(0, 5)]
             chance.shuffle(places)
             brought = [f"bring {place}" for place in places]

@@ -125,6 +125,23 @@ class Asking(Houses):
             ("ann", first), ("cid", first), ("ann", second), ("cid", second), ("bob", third), ("cid", third)])
         self.assertEqual([len(house.told(hand)) for hand in HANDS], [1, 2, 0])
 
+    def test_twenty_hands(self):
+        house = House(TWENTY)
+        house.ask("h15", 0, 60, TWENTY[:5][::-1] + TWENTY[:5:-1])
+        others = tuple([hand for hand in TWENTY if hand != "h15"])
+        self.assertEqual(house.row(), [(hand, ("bid", "h15", 0, 1, 0, 60, others)) for hand in others])
+        bring_all(house)
+        for hand in others:
+            house.answer(hand, "h15", 0)
+        bring_all(house)
+        house.close("h15", 0)
+        bring_all(house)
+        for hand in TWENTY:
+            self.assertEqual(
+                house.told(hand), [("h15", 0, 1, "closed", 0, 60, others, (), (), others, ())])
+            self.assertEqual(house.holds(hand), [(0, 60, "h15", 0)])
+        self.assertEqual(house.free(TWENTY, -5, 65), [(-5, 0), (60, 65)])
+
     def test_refused(self):
         house = House(HANDS)
         house.note("ann", "trip", 0, 50)

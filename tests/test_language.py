@@ -143,6 +143,33 @@ class Trees(unittest.TestCase):
             if isinstance(node.func, ast.Attribute):
                 self.assertIn(node.func.attr, methods + METHODS, (path, node.lineno))
 
+    def test_no_method_or_value_is_called_like_one_of_pythons_own(self):
+        taken = [name for kind in (str, int, list, dict, set, bytes) for name in dir(kind)]
+        names = [part.name for path, node in nodes(ast.ClassDef) for part in node.body if hasattr(part, "name")]
+        names += [node.attr for path, node in nodes(ast.Attribute) if isinstance(node.ctx, ast.Store)]
+        self.assertEqual([name for name in names if name in taken and name not in UNDERSCORED], [])
+
+    def test_sets_stand_within_sorted_alone(self):
+        within = [
+            part for path, node in nodes(ast.Call) if ast.unparse(node.func) == "sorted" for part in node.args]
+        kept = [ast.dump(part) for part in within]
+        for path, node in nodes(ast.Call):
+            if ast.unparse(node.func) == "set":
+                self.assertIn(ast.dump(node), kept, (path, node.lineno))
+        self.assertEqual(nodes((ast.Set, ast.SetComp)), [])
+
+    def test_errors_are_taken_by_their_own_names(self):
+        own = [node.name for path, node in nodes(ast.ClassDef) if path.stem == "errors"]
+        for path, node in nodes(ast.Try):
+            for handler in node.handlers:
+                name = ast.unparse(handler.type)
+                if name != "ValueError":
+                    self.assertIn(name, own, (path, node.lineno))
+                    continue
+                # Python's own is taken round a lone call of int or str.
+                self.assertEqual(len(node.body), 1, (path, node.lineno))
+                self.assertRegex(ast.unparse(node.body[0]), r"\Areturn (int|str)\([a-z]+\)\Z", (path, node.lineno))
+
     def test_expressions(self):
         for path, node in nodes(ast.Assign):
             self.assertEqual([isinstance(target, ast.Tuple) for target in node.targets], [False], (path, node.lineno))
